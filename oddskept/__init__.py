@@ -1,0 +1,1 @@
+"""Oddskept: what a shared object keeps in programs that throw coins."""

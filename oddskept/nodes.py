@@ -1,0 +1,59 @@
+"""Nodes and pairs: code states beside the plain states that can go with them."""
+
+from oddskept.coderun import first_state, moves_of, play_move
+from oddskept.posts import front_behind
+from oddskept.stocks import first_plain
+
+
+class Web:
+    """What the code states and the plain states of one stock lead to, each worked out once."""
+
+    def __init__(self, stock):
+        self.stock = stock
+        self.leads = {}
+        self.fronts = {}
+
+    def leads_of(self, state):
+        """Return the list of the tuples (move, code state to which it leads)."""
+        if state not in self.leads:
+            code = self.stock.code
+            self.leads[state] = [(move, play_move(code, state, move)) for move in moves_of(code, state)]
+        return self.leads[state]
+
+    def front_from(self, plain, move):
+        """Return the front of the post of a plain state along a move."""
+        if (plain, move) not in self.fronts:
+            self.fronts[(plain, move)] = front_behind(self.stock, [plain], move)
+        return self.fronts[(plain, move)]
+
+
+def first_node(stock):
+    """Return the node in which a stock starts."""
+    return (first_state(stock.code), (first_plain(stock),))
+
+
+def next_nodes(stock, node):
+    """Return the list of the tuples (move, node to which it leads), in the order of the moves."""
+    state, members = node
+    return [(move, (play_move(stock.code, state, move), tuple(front_behind(stock, members, move))))
+            for move in moves_of(stock.code, state)]
+
+
+def pairs_of(stock):
+    """Return the ascending list of the reachable pairs.
+
+    It is enough to follow single moves from the nodes of pairs: what is in the front behind
+    a row is also in the front behind the last move from some member of the front before it.
+    """
+    web = Web(stock)
+    state, members = first_node(stock)
+    waiting = [(state, members[0])]
+    seen = set(waiting)
+    while waiting:
+        state, plain = waiting.pop()
+        for move, goal in web.leads_of(state):
+            for member in web.front_from(plain, move):
+                if (goal, member) not in seen:
+                    seen.add((goal, member))
+                    waiting.append((goal, member))
+    return sorted(seen)
