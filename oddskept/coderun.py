@@ -1,6 +1,7 @@
 """The states of a code book and the moves between them."""
 
 from oddskept.bench import Bench, first_registers, kept_cells, run_line, waits
+from oddskept.changes import with_item
 from oddskept.errors import BadMove
 
 BEGIN = 0
@@ -17,8 +18,22 @@ def moves_of(code, state):
     """Return the list of the moves of a state."""
     moves = []
     for port in range(len(code.ports)):
-        moves.extend(_moves_at(code, state, port))
+        moves.extend(moves_at(code, state, port))
     return moves
+
+
+def moves_at(code, state, port):
+    """Return the list of the moves of one port."""
+    _, parts, calls = state
+    if calls[port] == ():
+        return [(BEGIN, port, item) for item in range(len(code.ports[port]))]
+    deed, line, registers = calls[port]
+    instruction = code.lines_of(deed)[line][0]
+    if instruction[0] == "answer":
+        return [(ANSWER, port, registers[instruction[1]])]
+    if waits(code, parts, registers, instruction):
+        return []
+    return [(STEP, port, 0)]
 
 
 def after(code, state, move):
@@ -47,26 +62,12 @@ def play_move(code, state, move):
     if kind == BEGIN:
         deed, argument = code.ports[port][value]
         call = (deed, 0, first_registers(code, argument))
-    return (cells, parts, _with_call(calls, port, call))
+    return (cells, parts, with_item(calls, port, call))
 
 
 def _is_move(code, state, move):
     """Tell whether three integers are a move of the state."""
-    return 0 <= move[1] < len(code.ports) and move in _moves_at(code, state, move[1])
-
-
-def _moves_at(code, state, port):
-    """Return the list of the moves of one port."""
-    _, parts, calls = state
-    if calls[port] == ():
-        return [(BEGIN, port, item) for item in range(len(code.ports[port]))]
-    deed, line, registers = calls[port]
-    instruction = code.lines_of(deed)[line][0]
-    if instruction[0] == "answer":
-        return [(ANSWER, port, registers[instruction[1]])]
-    if waits(code, parts, registers, instruction):
-        return []
-    return [(STEP, port, 0)]
+    return 0 <= move[1] < len(code.ports) and move in moves_at(code, state, move[1])
 
 
 def _stepped(code, state, port):
@@ -81,14 +82,9 @@ def _stepped(code, state, port):
         line = run_line(bench, instruction, line)
         running = fused and not _holds(bench, lines[line][0])
     call = (deed, line, tuple(bench.registers))
-    return (kept_cells(bench), tuple(bench.parts), _with_call(calls, port, call))
+    return (kept_cells(bench), tuple(bench.parts), with_item(calls, port, call))
 
 
 def _holds(bench, instruction):
     """Tell whether a step ends ahead of this instruction, even if the line before it is fused."""
     return instruction[0] == "answer" or waits(bench.code, bench.parts, bench.registers, instruction)
-
-
-def _with_call(calls, port, call):
-    """Return the calls with another call at one port."""
-    return calls[:port] + (call,) + calls[port + 1:]

@@ -1,4 +1,7 @@
-"""The instructions of code books: their forms, their texts, and which line may follow which."""
+"""The instructions of code books: their forms, their texts, and which line may follow which.
+
+What does not depend on the forms serves the instructions of programs, too.
+"""
 
 from oddskept.words import is_name, numbers_of
 
@@ -22,16 +25,21 @@ FORMS = {
 
 def form_of(word, count):
     """Return the form of an instruction with this word and so many operands, None if there is none."""
-    for form in FORMS.get(word, ()):
+    return fitting(FORMS.get(word, ()), count)
+
+
+def fitting(forms, count):
+    """Return the form for so many operands, None if there is none."""
+    for form in forms:
         if len(form) == count:
             return form
     return None
 
 
 def followers(instructions, at):
-    """Return the tuple of the lines that can come directly behind line number `at`."""
+    """Return the tuple of the lines that can come directly behind line number `at` of a deed or a thread."""
     word = instructions[at][0]
-    if word == "answer":
+    if word in ("answer", "stop"):
         return ()
     if word == "jump" and len(instructions[at]) == 2:
         return (instructions[at][1],)
@@ -61,7 +69,11 @@ def write_instruction(instruction):
 
 def read_instruction(words):
     """Return the instruction that is written with these words, None if there is none."""
-    form = form_of(words[0], len(words) - 1) if words else None
+    return read_as(form_of(words[0], len(words) - 1), words) if words else None
+
+
+def read_as(form, words):
+    """Return the instruction that is written with these words, None if it has not this form or the form is None."""
     if form is None:
         return None
     operands = [_operand(letter, word) for letter, word in zip(form, words[1:])]

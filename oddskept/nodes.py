@@ -3,28 +3,7 @@
 from oddskept.coderun import first_state, moves_of, play_move
 from oddskept.posts import front_behind
 from oddskept.stocks import first_plain
-
-
-class Web:
-    """What the code states and the plain states of one stock lead to, each worked out once."""
-
-    def __init__(self, stock):
-        self.stock = stock
-        self.leads = {}
-        self.fronts = {}
-
-    def leads_of(self, state):
-        """Return the list of the tuples (move, code state to which it leads)."""
-        if state not in self.leads:
-            code = self.stock.code
-            self.leads[state] = [(move, play_move(code, state, move)) for move in moves_of(code, state)]
-        return self.leads[state]
-
-    def front_from(self, plain, move):
-        """Return the front of the post of a plain state along a move."""
-        if (plain, move) not in self.fronts:
-            self.fronts[(plain, move)] = front_behind(self.stock, [plain], move)
-        return self.fronts[(plain, move)]
+from oddskept.web import Web
 
 
 def first_node(stock):

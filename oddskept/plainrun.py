@@ -1,5 +1,6 @@
 """Takes: the moments at which calls of a plain object take effect."""
 
+from oddskept.changes import with_item
 from oddskept.errors import BadMove
 
 ASKED = 0
@@ -9,15 +10,15 @@ DONE = 1
 def takes_of(stock, state):
     """Return the ascending list of the takes (port, choice number) of a plain state."""
     return [(port, choice) for port in range(len(state[1]))
-            for choice in range(len(_options_at(stock, state, port)))]
+            for choice in range(len(options_at(stock, state, port)))]
 
 
 def taken(stock, state, port, choice):
     """Return the plain state behind a take."""
     if (port, choice) not in takes_of(stock, state):
         raise BadMove(0)
-    goal, answer = _options_at(stock, state, port)[choice]
-    return (goal, with_mark(state[1], port, (DONE, answer)))
+    goal, answer = options_at(stock, state, port)[choice]
+    return (goal, with_item(state[1], port, (DONE, answer)))
 
 
 def reach(stock, state):
@@ -41,16 +42,11 @@ def reach_all(stock, states):
 def goals_of_takes(stock, state):
     """Return the list of the plain states to which the takes of a plain state lead."""
     marks = state[1]
-    return [(goal, with_mark(marks, port, (DONE, answer))) for port in range(len(marks))
-            for goal, answer in _options_at(stock, state, port)]
+    return [(goal, with_item(marks, port, (DONE, answer))) for port in range(len(marks))
+            for goal, answer in options_at(stock, state, port)]
 
 
-def with_mark(marks, port, mark):
-    """Return the marks with another mark at one port."""
-    return marks[:port] + (mark,) + marks[port + 1:]
-
-
-def _options_at(stock, state, port):
+def options_at(stock, state, port):
     """Return the list of the options of the call at a port, [] if the port is not asked."""
     number, marks = state
     if marks[port] == () or marks[port][0] != ASKED:

@@ -1,7 +1,8 @@
 """Posts: the plain states that can stand behind moves of the code; and the fronts of lists of them."""
 
+from oddskept.changes import with_item
 from oddskept.coderun import ANSWER, BEGIN
-from oddskept.plainrun import ASKED, DONE, goals_of_takes, reach_all, with_mark
+from oddskept.plainrun import ASKED, DONE, goals_of_takes, reach_all
 
 
 def post(stock, state, move):
@@ -58,7 +59,7 @@ def _firsts_behind(stock, states, move):
     kind, port, value = move
     if kind == BEGIN:
         mark = (ASKED, *stock.code.ports[port][value])
-        return [(state[0], with_mark(state[1], port, mark)) for state in states if state[1][port] == ()]
+        return [(state[0], with_item(state[1], port, mark)) for state in states if state[1][port] == ()]
     if kind == ANSWER:
         return _firsts_ended(stock, states, port, value)
     return list(states)
@@ -75,7 +76,7 @@ def _firsts_ended(stock, states, port, value):
     while waiting:
         number, marks = waiting.pop()
         if marks[port] == (DONE, value):
-            ended.append((number, with_mark(marks, port, ())))
+            ended.append((number, with_item(marks, port, ())))
         elif marks[port] != () and marks[port][0] == ASKED:
             for goal in goals_of_takes(stock, (number, marks)):
                 if goal not in seen:

@@ -1,5 +1,7 @@
 """The words of the document about takes, posts, fronts and pairs, followed as they stand."""
 
+from fractions import Fraction
+
 from oddskept.coderun import after, first_state, moves_of
 from oddskept.stocks import first_plain
 
@@ -94,3 +96,98 @@ def ends_of_runs(stock, state, row):
                 seen.add(goal)
                 waiting.append(goal)
     return found
+
+
+def sets_from(stock, pair):
+    """All (code state, post) to which rows of moves lead from a pair, each with a shortest number of moves."""
+    start = (pair[0], frozenset([pair[1]]))
+    found = {start: 0}
+    waiting = [start]
+    for state, plains in waiting:
+        for move in moves_of(stock.code, state):
+            goal = (after(stock.code, state, move), frozenset(post_all(stock, plains, move)))
+            if goal not in found:
+                found[goal] = found[state, plains] + 1
+                waiting.append(goal)
+    return found
+
+
+def all_sets(stock, pair):
+    """The sets from a pair, and from each pair of which these ask, by their pairs."""
+    found = {}
+    waiting = [pair]
+    while waiting:
+        one = waiting.pop()
+        if one not in found:
+            found[one] = sets_from(stock, one)
+            waiting += [(state, plain) for state, plains in found[one] for plain in plains]
+    return found
+
+
+def dead_levels(stock, pair):
+    """The dead level of a pair and of each pair that is asked of for it, as point 28 words it: posts, not fronts."""
+    sets = all_sets(stock, pair)
+    levels = dict.fromkeys(sets)
+    level = 0
+    while True:
+        dead = {one for one in levels if levels[one] is not None}
+        new = [one for one in sets if one not in dead
+               and any(all((state, plain) in dead for plain in plains) for state, plains in sets[one])]
+        for one in new:
+            levels[one] = level
+        if not new:
+            return levels
+        level += 1
+
+
+def table_is_accepted(stock, table):
+    if (first_state(stock.code), first_plain(stock)) not in table:
+        return False
+    return all(any((after(stock.code, state, move), goal) in table for goal in post(stock, plain, move))
+               for state, plain in table for move in moves_of(stock.code, state))
+
+
+def ladder_is_accepted(stock, ladder):
+    if not ladder or (first_state(stock.code), (first_plain(stock),)) not in ladder[-1]:
+        return False
+    for height, nodes in enumerate(ladder):
+        for node in nodes:
+            if not node[1]:
+                return False
+            if not all(node_behind(stock, node, move) in nodes for move in moves_of(stock.code, node[0])):
+                return False
+            if height and not any((node[0], (member,)) in ladder[height - 1] for member in node[1]):
+                return False
+    return True
+
+
+def script_is_accepted(stock, script, pair=None):
+    state, plain = pair or (first_state(stock.code), first_plain(stock))
+    row, children = script
+    plains = {plain}
+    for move in row:
+        if move not in moves_of(stock.code, state):
+            return False
+        state, plains = after(stock.code, state, move), post_all(stock, plains, move)
+    if [member for member, _ in children] != sorted(front(stock, plains)):
+        return False
+    return all(script_is_accepted(stock, child, (state, member)) for member, child in children)
+
+
+def throws(script):
+    _, children = script
+    if len(children) < 2:
+        return max([throws(child) for _, child in children], default=0)
+    return 1 + max(throws(child) for _, child in children)
+
+
+def worth(stock, script, plain=None):
+    """The worth as a Fraction, over the whole post."""
+    row, children = script
+    plains = {first_plain(stock) if plain is None else plain}
+    for move in row:
+        plains = post_all(stock, plains, move)
+    if not children:
+        return Fraction(1 if plains else 0)
+    means = [sum(worth(stock, child, one) for _, child in children) / len(children) for one in plains]
+    return max(means, default=Fraction(0))

@@ -32,10 +32,26 @@ INTERFACE = {
     "posts": {"post": "stock state move", "post_all": "stock states move", "post_row": "stock states row",
               "front_of": "stock states"},
     "nodes": {"first_node": "stock", "next_nodes": "stock node", "pairs_of": "stock"},
+    "orders": {"ordered": "stock row", "judge_order": "stock row order", "unordered": "stock"},
+    "progbook": {"Program": "mail objects threads", "most_throws": "program"},
+    "progtext": {"write_program": "program", "read_program": "text"},
+    "hall": {"Hall": "program stocks ways", "first_position": "hall", "picks_at": "hall position"},
+    "picking": {"coin_sides": "hall position pick", "play_pick": "hall position pick side=0"},
+    "levels": {"dead_at": "stock pair", "grade_of": "stock", "levels_of": "stock"},
+    "judges": {"judge_table": "stock table", "judge_ladder": "stock ladder", "judge_script": "stock script",
+               "script_throws": "script", "script_worth": "stock script"},
+    "tables": {"make_table": "stock", "make_ladder": "stock height"},
+    "scripts": {"make_script": "stock"},
+    "verdicts": {"Verdict": "grade low high worth", "make_verdict": "stock", "judge_verdict": "stock verdict"},
+    "scripttext": {"write_script": "script", "read_script": "text"},
+    "plans": {"plan_throws": "plan", "fits": "hall plan", "Run": "chance trace", "run_plan": "hall plan tape",
+              "outcomes": "hall plan"},
+    "transcripts": {"write_run": "run", "read_run": "text"},
+    "odds": {"plan_odds": "hall plan goal"},
 }
 BUILTINS = set("""len range enumerate zip min max sum abs sorted reversed int str bool list tuple dict set isinstance ord repr
 any all divmod getattr hasattr setattr iter next map property staticmethod classmethod super ValueError KeyError""".split())
-METHODS = set("""append clear copy count endswith extend find get index insert isdigit items join keys partition pop remove
+METHODS = set("""append clear copy count endswith extend find get index insert isdigit items join keys lstrip partition pop remove
 replace reverse setdefault split startswith strip update values removeprefix removesuffix add discard""".split())
 LIBRARY = {"math": {"gcd"}}
 BARRED = set("""type typing enum Enum Flag Generic Protocol ABC namedtuple NamedTuple TypedDict abstractmethod""".split())
@@ -139,8 +155,61 @@ class Code(unittest.TestCase):
                 self.assertIn(node.func.attr, METHODS | own | {"__init__"}, name)
 
     def test_no_other_statements(self):
-        for kind in (ast.AsyncFunctionDef, ast.Global, ast.Nonlocal, ast.AnnAssign, ast.Try, ast.NamedExpr, ast.Set):
+        for kind in (ast.AsyncFunctionDef, ast.Global, ast.Nonlocal, ast.AnnAssign, ast.NamedExpr, ast.Set, ast.With, ast.Match,
+                     ast.GeneratorExp, ast.YieldFrom):
             self.assertEqual(walked(kind), [])
+
+    def test_own_errors_alone_are_caught(self):
+        own = set(defined(TREES["errors"]))
+        for name, node in walked(ast.Try):
+            self.assertFalse(node.finalbody)
+            for handler in node.handlers:
+                self.assertIsInstance(handler.type, ast.Name, name)
+                self.assertIn(handler.type.id, own, name)
+
+    def test_generators_are_iterated_at_once(self):
+        """L23: a function with a yield is called behind the `in` of a loop alone, and has no value to return."""
+        yielding = {node.name for _, node in walked(ast.FunctionDef) if any(isinstance(one, ast.Yield) for one in ast.walk(node))}
+        heads = {id(node.iter) for _, node in walked(ast.For)}
+        for name, node in walked(ast.Call):
+            if isinstance(node.func, ast.Name) and node.func.id in yielding:
+                self.assertIn(id(node), heads, (name, node.lineno))
+        self.assertEqual(yielding, {"outcomes"})
+
+    def test_targets(self):
+        """L6 and L23: names, and names in parentheses, no deeper."""
+        targets = [(name, target) for name, node in walked(ast.Assign) for target in node.targets]
+        targets += [(name, node.target) for name, node in walked((ast.For, ast.comprehension))]
+        for name, target in targets:
+            for one in getattr(target, "elts", []):
+                for inner in getattr(one, "elts", []):
+                    self.assertIsInstance(inner, ast.Name, (name, ast.unparse(target)))
+
+    def test_sets_are_stored_once_and_never_passed_on(self):
+        """L24: a local variable that holds a set is only asked, added to, measured, sorted and tested."""
+        for name, function in walked(ast.FunctionDef):
+            kept = {node.targets[0].id for node in ast.walk(function) if isinstance(node, ast.Assign)
+                    and isinstance(node.value, (ast.Call, ast.SetComp)) and isinstance(node.targets[0], ast.Name)
+                    and (isinstance(node.value, ast.SetComp) or getattr(node.value.func, "id", "") == "set")}
+            allowed = []
+            for node in ast.walk(function):
+                if isinstance(node, ast.Compare):
+                    allowed += [one for sign, one in zip(node.ops, node.comparators) if isinstance(sign, (ast.In, ast.NotIn))]
+                if isinstance(node, ast.Call) and getattr(node.func, "id", "") in ("sorted", "len"):
+                    allowed += node.args
+                if isinstance(node, ast.Call) and isinstance(node.func, ast.Attribute) and node.func.attr in ("add", "discard"):
+                    allowed.append(node.func.value)
+            stored = [node.id for node in ast.walk(function) if isinstance(node, ast.Name) and isinstance(node.ctx, ast.Store)]
+            for node in ast.walk(function):
+                if isinstance(node, ast.Name) and isinstance(node.ctx, ast.Load) and node.id in kept:
+                    self.assertTrue(any(node is one for one in allowed), (name, function.name, node.id, node.lineno))
+            for one in kept:
+                self.assertEqual(stored.count(one), 1, (name, function.name, one))
+
+    def test_attributes_are_assigned_through_names(self):
+        for name, node in walked(ast.Attribute):
+            if isinstance(node.ctx, ast.Store):
+                self.assertIsInstance(node.value, ast.Name, (name, node.lineno))
 
     def test_no_float_and_no_slash(self):
         for name, node in walked(ast.Constant):
@@ -177,6 +246,9 @@ class Interface(unittest.TestCase):
                 if parameters is not None:
                     found = [str(one) for one in inspect.signature(thing).parameters.values() if one.name != "self"]
                     self.assertEqual(found, parameters.split(" "), path)
+
+    def test_generator(self):
+        self.assertTrue(inspect.isgeneratorfunction(import_module("oddskept.plans").outcomes))
 
     def test_operators_and_properties(self):
         share = vars(import_module("oddskept.shares").Share)

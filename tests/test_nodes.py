@@ -9,20 +9,7 @@ from oddskept.nodes import first_node, next_nodes, pairs_of
 from oddskept.plainbook import PlainBook
 from oddskept.stocks import Stock, first_plain
 from tests import models
-from tests.helpers import CELL, code_with, is_exact, lines, random_marks, random_plain, shuffled
-
-
-def random_code(generator):
-    """A code book of two or three ports whose deeds read and write one cell."""
-    words = [("read", 1, 0, 0), ("write", 0, 0, 0), ("swap", 1, 0, 0), ("count", 1, 1, 0, 0), ("set", 1, 1),
-             ("use", 1, 0, "put", 0), ("use", 1, 0, "wait", 0)]
-    deeds = []
-    for name in ("go", "hit"):
-        told = [(one, generator.random() < 0.4) for one in generator.choices(words, k=generator.randint(0, 2))]
-        deeds.append((name, told + [(("answer", generator.randrange(2)), False)]))
-    items = [("go", 0), ("go", 1), ("hit", 0), ("hit", 1)]
-    ports = [generator.sample(items, generator.randint(0, 2)) for _ in range(generator.randint(2, 3))]
-    return CodeBook(2, 2, [[0]], [("cell", CELL)], ports, deeds)
+from tests.helpers import code_with, is_exact, lines, random_code, random_marks, random_plain, shuffled
 
 
 class FirstNodes(unittest.TestCase):

@@ -1,0 +1,6 @@
+"""Tuples with one item changed."""
+
+
+def with_item(row, at, one):
+    """Return a tuple with another item at one index."""
+    return row[:at] + (one,) + row[at + 1:]
