@@ -22,6 +22,9 @@ FORMS = {
     "answer": ("r",),
 }
 
+# The words of the instructions that touch no cell and no part.
+LOCAL = ("set", "copy", "add", "less", "same", "jump")
+
 
 def form_of(word, count):
     """Return the form of an instruction with this word and so many operands, None if there is none."""
@@ -34,6 +37,14 @@ def fitting(forms, count):
         if len(form) == count:
             return form
     return None
+
+
+def moved(instruction, shifts):
+    """Return an instruction of a code book with its operands raised, for each letter by what `shifts` tells."""
+    form = form_of(instruction[0], len(instruction) - 1)
+    operands = [operand + shifts[letter] if letter in shifts else operand
+                for letter, operand in zip(form, instruction[1:])]
+    return (instruction[0], *operands)
 
 
 def followers(instructions, at):
@@ -60,6 +71,20 @@ def have_ring(instructions, lines):
             if not any([follower in left for follower in followers(instructions, line)]):
                 del left[line]
     return len(left) > 0
+
+
+def closes_ring(instructions, marks, line):
+    """Tell whether a line forms a ring with marked ones; no ring is marked so far."""
+    seen = {}
+    waiting = [line]
+    while waiting:
+        for one in followers(instructions, waiting.pop()):
+            if one == line:
+                return True
+            if marks[one] and one not in seen:
+                seen[one] = True
+                waiting.append(one)
+    return False
 
 
 def write_instruction(instruction):

@@ -6,9 +6,15 @@ from oddskept.stocks import first_plain
 from oddskept.web import Web
 
 
+def first_pair(stock):
+    """Return the pair in which a stock starts."""
+    return (first_state(stock.code), first_plain(stock))
+
+
 def first_node(stock):
     """Return the node in which a stock starts."""
-    return (first_state(stock.code), (first_plain(stock),))
+    state, plain = first_pair(stock)
+    return (state, (plain,))
 
 
 def next_nodes(stock, node):
@@ -25,8 +31,7 @@ def pairs_of(stock):
     a row is also in the front behind the last move from some member of the front before it.
     """
     web = Web(stock)
-    state, members = first_node(stock)
-    waiting = [(state, members[0])]
+    waiting = [first_pair(stock)]
     seen = set(waiting)
     while waiting:
         state, plain = waiting.pop()

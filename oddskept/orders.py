@@ -3,7 +3,8 @@
 from oddskept.changes import with_item
 from oddskept.coderun import ANSWER, BEGIN, STEP
 from oddskept.nodes import first_node
-from oddskept.plainrun import ASKED, DONE, goals_of_takes, options_at, takes_of
+from oddskept.pieces import pieces_to
+from oddskept.plainrun import ASKED, DONE, options_at
 from oddskept.posts import front_behind
 from oddskept.stocks import first_plain
 from oddskept.web import Web
@@ -18,47 +19,7 @@ def ordered(stock, row):
         fronts.append(front_behind(stock, fronts[-1], move))
     if not fronts[-1]:
         return None
-    # Each member of a front is in the post of a member of the front before it.
-    state = fronts[-1][0]
-    pieces = []
-    for index in reversed(range(len(row))):
-        state, piece = _piece_behind(stock, fronts[index], row[index], state)
-        pieces.append(piece)
-    return [entry for piece in reversed(pieces) for entry in piece]
-
-
-def _piece_behind(stock, states, move, goal):
-    """Return one of the states, and the entries of an order that lead from it along the move to the goal."""
-    kind, port, value = move
-    if kind == STEP:
-        return goal, []
-    number, marks = goal
-    if kind == BEGIN:
-        return (number, with_item(marks, port, ())), [("begin", port, value)]
-    state, takes = takes_to(stock, states, port, (number, with_item(marks, port, (DONE, value))))
-    return state, [("take", *take) for take in takes] + [("end", port, value)]
-
-
-def takes_to(stock, states, port, goal):
-    """Return one of the states, and the list of takes that lead from it to the goal.
-
-    The port is asked or done in the states and done in the goal. If it is not done at first, its take is the last one.
-    """
-    ways = {state: None for state in states}
-    waiting = sorted(ways)
-    while goal not in ways:
-        state = waiting.pop()
-        if state[1][port][0] == ASKED:
-            # Takes and their goals are listed in the same order.
-            for take, behind in zip(takes_of(stock, state), goals_of_takes(stock, state)):
-                if behind not in ways:
-                    ways[behind] = (state, take)
-                    waiting.append(behind)
-    takes = []
-    while ways[goal] is not None:
-        goal, take = ways[goal]
-        takes.append(take)
-    return goal, list(reversed(takes))
+    return [entry for piece in pieces_to(stock, fronts, row, fronts[-1][0]) for entry in piece]
 
 
 def judge_order(stock, row, order):

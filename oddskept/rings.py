@@ -55,3 +55,15 @@ def most_ahead(follow, groups, marked):
         for line in group:
             ahead[line] = most + (1 if marked[line] else 0)
     return ahead
+
+
+def lines_off_rings(follow, chosen):
+    """Return a dict with those of the chosen lines that lie on no ring of chosen lines alone."""
+    among = {line: True for line in chosen}
+    kept = [[one for one in ones if one in among] if line in among else [] for line, ones in enumerate(follow)]
+    off = {}
+    for group in knots(kept):
+        line = group[0]
+        if line in among and len(group) == 1 and line not in kept[line]:
+            off[line] = True
+    return off

@@ -57,9 +57,14 @@ def fields_of(thing):
 
 def is_exact(value, kinds=(int, str, tuple)):
     """Whether a value is made of values of exactly these kinds, tuples at every level."""
-    if type(value) is tuple:
-        return all(is_exact(one, kinds) for one in value)
-    return type(value) in kinds
+    waiting = [value]
+    while waiting:
+        one = waiting.pop()
+        if type(one) is tuple:
+            waiting.extend(one)
+        elif type(one) not in kinds:
+            return False
+    return True
 
 
 def shuffled(generator, values):

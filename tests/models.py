@@ -1,8 +1,10 @@
-"""The words of the document about takes, posts, fronts and pairs, followed as they stand."""
+"""The words of the document about takes, posts, fronts, pairs, papers and standings, followed as they stand."""
 
 from fractions import Fraction
 
 from oddskept.coderun import after, first_state, moves_of
+from oddskept.hall import first_position, picks_at
+from oddskept.picking import coin_sides, play_pick
 from oddskept.stocks import first_plain
 
 
@@ -191,3 +193,51 @@ def worth(stock, script, plain=None):
         return Fraction(1 if plains else 0)
     means = [sum(worth(stock, child, one) for _, child in children) / len(children) for one in plains]
     return max(means, default=Fraction(0))
+
+
+def standings_from(hall, goal, standing):
+    """The (pick, list of the standings behind its sides) of a standing, as point 42 words it; [] for a lost goal."""
+    position, count = standing
+    found = []
+    for pick in picks_at(hall, position) if count < len(goal) else []:
+        sides = coin_sides(hall, position, pick)
+        behind = []
+        for side in range(max(1, sides)):
+            goal_position, event = play_pick(hall, position, pick, side)
+            if event is not None and event[2] == "print":
+                if event[3] == goal[count]:
+                    behind.append((goal_position, count + 1))
+            else:
+                behind.append((goal_position, count))
+        found.append((pick, behind))
+    return found
+
+
+def reached_standings(hall, goal):
+    """The reached standings, with what leads from them."""
+    start = (first_position(hall), 0)
+    found = {start: standings_from(hall, goal, start)}
+    waiting = [start]
+    for standing in waiting:
+        for _, behind in found[standing]:
+            for one in behind:
+                if one not in found:
+                    found[one] = standings_from(hall, goal, one)
+                    waiting.append(one)
+    return found
+
+
+def best_odds(hall, goal):
+    """The best odds from each reached standing, as Fractions: from 0 on they rise until nothing changes."""
+    leads = reached_standings(hall, goal)
+    odds = {one: Fraction(int(one[1] == len(goal))) for one in leads}
+    changed = True
+    while changed:
+        changed = False
+        for one in reversed(list(leads)):
+            for _, behind in leads[one]:
+                told = sum(odds[other] for other in behind) / max(1, len(behind))
+                if told > odds[one]:
+                    odds[one] = told
+                    changed = True
+    return odds
