@@ -48,6 +48,20 @@ INTERFACE = {
               "outcomes": "hall plan"},
     "transcripts": {"write_run": "run", "read_run": "text"},
     "odds": {"plan_odds": "hall plan goal"},
+    "best": {"best_odds": "hall goal", "best_plan": "hall goal"},
+    "prices": {"make_prices": "hall goal", "judge_prices": "hall goal prices share"},
+    "carry": {"carry": "hall papers plan"},
+    "parting": {"parting": "stock script copies=1"},
+    "beside": {"beside": "one two *more"},
+    "besidetable": {"beside_table": "stocks tables"},
+    "upon": {"upon": "upper lowers"},
+    "upontable": {"upon_table": "upper lowers table tables"},
+    "fusing": {"fuse": "code spots", "thin": "code"},
+    "mends": {"find_mends": "stock candidates wish"},
+    "uses": {"find_uses": "stock wish"},
+    "edits": {"edited": "stock edit"},
+    "desk": {"Desk": "stock", "Desk.edit": "edit", "Desk.apply": "edits", "Desk.undo": None, "Desk.again": None, "Desk.verdict": None},
+    "store": {"write_stock": "stock", "read_stock": "text", "write_desk": "desk", "read_desk": "text"},
 }
 BUILTINS = set("""len range enumerate zip min max sum abs sorted reversed int str bool list tuple dict set isinstance ord repr
 any all divmod getattr hasattr setattr iter next map property staticmethod classmethod super ValueError KeyError""".split())
@@ -211,6 +225,26 @@ class Code(unittest.TestCase):
             if isinstance(node.ctx, ast.Store):
                 self.assertIsInstance(node.value, ast.Name, (name, node.lineno))
 
+    def test_properties_are_no_attributes(self):
+        """L5: what is a property of one class is assigned on no object."""
+        told = {node.name for _, node in walked(ast.FunctionDef) if "property" in [getattr(one, "id", "") for one in node.decorator_list]}
+        self.assertEqual(told, {"deterministic", "stock", "steps_done", "steps_undone"})
+        for name, node in walked(ast.Attribute):
+            self.assertFalse(isinstance(node.ctx, (ast.Store, ast.Del)) and node.attr in told, (name, node.lineno))
+
+    def test_attributes_that_are_read_are_assigned(self):
+        """L18: an attribute that is read is assigned by some class, or is a method or a property."""
+        known = {node.attr for _, node in walked(ast.Attribute) if isinstance(node.ctx, ast.Store)}
+        known |= {node.name for _, node in walked(ast.FunctionDef)} | METHODS | {"__init__"}
+        for name, node in walked(ast.Attribute):
+            self.assertIn(node.attr, known, (name, node.lineno))
+
+    def test_methods_and_attributes_of_a_class_differ(self):
+        for name, node in walked(ast.ClassDef):
+            methods = {one.name for one in node.body if isinstance(one, ast.FunctionDef)}
+            assigned = {one.attr for one in ast.walk(node) if isinstance(one, ast.Attribute) and isinstance(one.ctx, ast.Store)}
+            self.assertFalse(methods & assigned, (name, node.name))
+
     def test_no_float_and_no_slash(self):
         for name, node in walked(ast.Constant):
             self.assertNotIsInstance(node.value, (float, complex, bytes), name)
@@ -256,3 +290,15 @@ class Interface(unittest.TestCase):
             self.assertIn(name, share)
         self.assertIsInstance(share["parse"], staticmethod)
         self.assertIsInstance(vars(import_module("oddskept.plainbook").PlainBook)["deterministic"], property)
+        for name in ("stock", "steps_done", "steps_undone"):
+            self.assertIsInstance(vars(import_module("oddskept.desk").Desk)[name], property)
+
+    def test_keywords(self):
+        for module, name, parameter in (("parting", "parting", "copies"), ("mends", "find_mends", "wish"), ("uses", "find_uses", "wish")):
+            told = inspect.signature(getattr(import_module(f"oddskept.{module}"), name)).parameters[parameter]
+            self.assertEqual(told.kind, inspect.Parameter.KEYWORD_ONLY)
+
+    def test_methods_without_parameters(self):
+        desk = vars(import_module("oddskept.desk").Desk)
+        for name in ("undo", "again", "verdict"):
+            self.assertEqual(list(inspect.signature(desk[name]).parameters), ["self"])
