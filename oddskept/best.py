@@ -1,7 +1,7 @@
 """The best odds of halls, and the plans that have them."""
 
 from oddskept.chances import Chances
-from oddskept.eager import EagerLines
+from oddskept.focus import Focus
 from oddskept.shares import Share
 from oddskept.standings import StandingGraph
 
@@ -26,7 +26,7 @@ def best_plan(hall, goal):
 
 def _worked_out(hall, goal):
     """Return the graph of the standings of a hall that matter for a goal, and the best odds from them."""
-    graph = StandingGraph(hall, goal, EagerLines(hall))
+    graph = StandingGraph(hall, goal, Focus(hall))
     return graph, Chances(hall.program, graph)
 
 

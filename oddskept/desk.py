@@ -43,7 +43,7 @@ class Desk:
 
     def apply(self, edits):
         """Do the edits of a sequence as one step."""
-        step = tuple(edits)
+        step = tuple([tuple(edit) for edit in edits])
         stock = self._stocks[self._done]
         for index, edit in enumerate(step):
             try:

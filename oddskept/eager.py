@@ -8,6 +8,7 @@ the best odds stay what they are.
 from oddskept.hall import CODE
 from oddskept.instructions import LOCAL, followers
 from oddskept.plainrun import DONE
+from oddskept.quiet import quiet_lines
 from oddskept.rings import lines_off_rings
 
 
@@ -22,12 +23,12 @@ class EagerLines:
         self._hall = hall
         users = _users_of_cells(hall.program)
         self._lines = [_eager_lines(thread, users) for thread in hall.program.threads]
-        self._of_deeds = [{deed: _quiet_lines(lines) for deed, lines in stock.code.deeds} for stock in hall.stocks]
+        self._of_deeds = [{deed: _lines_at_once(lines) for deed, lines in stock.code.deeds} for stock in hall.stocks]
 
     def pick_at(self, position):
-        """Return a pick of the position that may be done at once, None if there is none."""
-        for thread, (line, _, _) in enumerate(position[1]):
-            if line in self._lines[thread] and self._goes_on(position, thread):
+        """Return a pick of the position that may be done at once, None if there is none; threads may be None."""
+        for thread, one in enumerate(position[1]):
+            if one is not None and one[0] in self._lines[thread] and self._goes_on(position, thread):
                 return (thread, 0)
         return None
 
@@ -65,12 +66,10 @@ def _eager_lines(thread, users):
     return eager
 
 
-def _quiet_lines(lines):
+def _lines_at_once(lines):
     """Return a dict with the lines of a deed whose step or answer touches no cell and no part."""
-    instructions = [instruction for instruction, _ in lines]
-    local = [line for line, (instruction, fused) in enumerate(lines) if instruction[0] in LOCAL and not fused]
-    quiet = lines_off_rings([followers(instructions, line) for line in range(len(lines))], local)
-    for line, instruction in enumerate(instructions):
+    at_once = quiet_lines(lines)
+    for line, (instruction, _) in enumerate(lines):
         if instruction[0] == "answer":
-            quiet[line] = True
-    return quiet
+            at_once[line] = True
+    return at_once

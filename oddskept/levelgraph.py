@@ -6,23 +6,28 @@ m + 1 for the least m such that a row leads to a node whose singles have at most
 is none. So the level of the node of a pair is the dead level of the pair.
 """
 
+from oddskept.nodes import first_node
 from oddskept.web import Web
 
 
+def graph_of(stock):
+    """Return the graph of the first node of a stock."""
+    return LevelGraph(Web(stock), first_node(stock))
+
+
 class LevelGraph:
-    """The nodes reached from a node, which has number 0, and what was found out about them.
+    """The nodes to which a web leads from a node, which has number 0, and what was found out about them.
 
     `leads` has for each node the list of its (move, number of the node behind it), `singles` the list of the
     numbers of the nodes of its members, `levels` its level. `nearer` has the first (move, number) of a
     shortest row to a node that gives it its level, None if that is the node itself.
     """
 
-    def __init__(self, stock, node):
+    def __init__(self, web, node):
         self.nodes = [node]
         self.leads = []
         self.singles = []
         self._numbers = {node: 0}
-        web = Web(stock)
         while len(self.leads) < len(self.nodes):
             state, members = self.nodes[len(self.leads)]
             # Behind a node without members there are only such nodes, of which nothing is asked.

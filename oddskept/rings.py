@@ -57,6 +57,23 @@ def most_ahead(follow, groups, marked):
     return ahead
 
 
+def all_ahead(follow, groups, masks):
+    """Return, for each line, all bits of the masks of the lines on sequences of lines that begin there.
+
+    The groups are those of `knots`.
+    """
+    ahead = [0] * len(follow)
+    for group in reversed(groups):
+        mask = 0
+        for line in group:
+            mask |= masks[line]
+            for one in follow[line]:
+                mask |= ahead[one]
+        for line in group:
+            ahead[line] = mask
+    return ahead
+
+
 def lines_off_rings(follow, chosen):
     """Return a dict with those of the chosen lines that lie on no ring of chosen lines alone."""
     among = {line: True for line in chosen}

@@ -1,18 +1,17 @@
 """Scripts that are made."""
 
-from oddskept.levelgraph import LevelGraph
-from oddskept.nodes import first_node
+from oddskept.levelgraph import graph_of
+from oddskept.levels import grade_of
 
 
 def make_script(stock):
     """Return an accepted script with as many throws as the grade and shortest rows, None if the grade is None."""
-    return script_of(LevelGraph(stock, first_node(stock)))
+    # The grade is found faster than all nodes.
+    return None if grade_of(stock) is None else script_of(graph_of(stock))
 
 
 def script_of(graph):
-    """Return what `make_script` returns, for the graph of the first node of the stock."""
-    if graph.levels[0] is None:
-        return None
+    """Return what `make_script` returns, for the graph of the first node of a stock with a number as its grade."""
     places = _places_from_first(graph)
     scripts = {}
     # The level of a child is below that of its place, so children are made first; equal ones are one tuple.

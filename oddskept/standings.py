@@ -1,6 +1,6 @@
 """Standings: positions of a hall beside the count of the numbers of a goal that have been printed."""
 
-from oddskept.hall import first_position, picks_at
+from oddskept.hall import first_position, picks_of
 from oddskept.picking import played, sides_of
 
 
@@ -8,10 +8,13 @@ def standings_behind(hall, goal, standing):
     """Return the list of the tuples (pick, standings behind it) of a standing that is not won.
 
     There is one standing for each side of a coin that falls, otherwise one, and none if the goal is lost.
+    A thread that is None in the position has no picks.
     """
     position, count = standing
     behind = []
-    for pick in picks_at(hall, position):
+    picks = [pick for thread, one in enumerate(position[1]) if one is not None
+             for pick in picks_of(hall, position, thread)]
+    for pick in picks:
         sides = sides_of(hall, position, pick)
         if sides > 0:
             ways = [(played(hall, position, pick, side)[0], count) for side in range(sides)]
@@ -33,18 +36,18 @@ def _behind_pick(hall, goal, standing, pick):
 class StandingGraph:
     """The standings that are reached for a goal, each of them settled, and what leads from one to the other.
 
-    A standing is settled if none of its picks is to be done at once, as `eager` tells; without that, each one is.
-    A *way* is a tuple (picks that are done at once, number of the settled standing behind them). `start` is the
-    way from the first standing; `leads` has for each standing the list of its tuples (pick, list of the ways
-    behind it), as `standings_behind` tells. `ahead` has the most throws that are still to come.
+    A standing is settled by a `Focus`, unless it is won; without a focus, each one is settled. A *way* is a tuple
+    (picks that are done at once, number of the settled standing behind them). `start` is the way from the first
+    standing; `leads` has for each standing the list of its tuples (pick, list of the ways behind it), as
+    `standings_behind` tells. `ahead` has the most throws that are still to come.
     """
 
-    def __init__(self, hall, goal, eager=None):
+    def __init__(self, hall, goal, focus=None):
         self.standings = []
         self.leads = []
         self._hall = hall
         self._goal = tuple(goal)
-        self._eager = eager
+        self._focus = focus
         self._numbers = {}
         self.start = self._way_to((first_position(hall), 0))
         while len(self.leads) < len(self.standings):
@@ -64,24 +67,16 @@ class StandingGraph:
 
     def _way_to(self, standing):
         """Return the way that goes on from a standing, behind which the settled standing has a number."""
-        picks = []
-        pick = self._pick_at_once(standing)
-        while pick is not None:
-            picks.append(pick)
-            standing = (played(self._hall, standing[0], pick, 0)[0], standing[1])
-            pick = self._pick_at_once(standing)
+        picks = ()
+        if self._focus is not None and not self.is_won(standing):
+            picks, position = self._focus.settled(standing[0])
+            standing = (position, standing[1])
         if standing not in self._numbers:
             self._numbers[standing] = len(self.standings)
             self.standings.append(standing)
-        return (tuple(picks), self._numbers[standing])
-
-    def _pick_at_once(self, standing):
-        """Return a pick of a standing that is to be done at once, None if it is settled."""
-        if self._eager is None or self.is_won(standing):
-            return None
-        return self._eager.pick_at(standing[0])
+        return (picks, self._numbers[standing])
 
 
 def _throws_ahead(program, position):
     """Return the most throws on sequences of lines of all threads from a position on."""
-    return sum([program.throws_ahead(thread, line) for thread, (line, _, _) in enumerate(position[1])])
+    return sum([program.throws_ahead(thread, one[0]) for thread, one in enumerate(position[1]) if one is not None])

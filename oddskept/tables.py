@@ -1,32 +1,30 @@
 """Tables and ladders that are made."""
 
-from oddskept.levelgraph import LevelGraph
-from oddskept.nodes import first_node
+from oddskept.levelgraph import graph_of
+from oddskept.levels import grade_of
 
 
 def make_table(stock):
     """Return an accepted table of reachable pairs, None if the grade is a number."""
-    return table_of(LevelGraph(stock, first_node(stock)))
+    # The grade is found faster than all nodes.
+    return table_of(graph_of(stock)) if grade_of(stock) is None else None
 
 
 def make_ladder(stock, height):
     """Return an accepted ladder of this height, None if the grade is a number that is at most the height."""
-    return ladder_of(LevelGraph(stock, first_node(stock)), height)
+    grade = grade_of(stock)
+    return ladder_of(graph_of(stock), height) if grade is None or grade > height else None
 
 
 def table_of(graph):
-    """Return what `make_table` returns, for the graph of the first node of the stock."""
-    if graph.levels[0] is not None:
-        return None
+    """Return what `make_table` returns, for the graph of the first node of a stock with the grade None."""
     # A pair that is never dead has, behind each move, a member with which it is never dead.
     numbers = _closed([0], lambda number: [graph.lasting_single(goal) for _, goal in graph.leads[number]])
     return tuple([(state, members[0]) for state, members in [graph.nodes[number] for number in numbers]])
 
 
 def ladder_of(graph, height):
-    """Return what `make_ladder` returns, for the graph of the first node of the stock."""
-    if graph.levels[0] is not None and graph.levels[0] <= height:
-        return None
+    """Return what `make_ladder` returns, for the graph of the first node of a stock with a grade above the height."""
     numbers = []
     chosen = [0]
     lists = []

@@ -1,8 +1,7 @@
 """Verdicts: what the grade of a stock is, with the papers that show it."""
 
 from oddskept.judges import judge_ladder, judge_script, judge_table, script_throws, script_worth
-from oddskept.levelgraph import LevelGraph
-from oddskept.nodes import first_node
+from oddskept.levelgraph import graph_of
 from oddskept.scripts import script_of
 from oddskept.tables import ladder_of, table_of
 
@@ -19,7 +18,7 @@ class Verdict:
 
 def make_verdict(stock):
     """Return an accepted verdict."""
-    graph = LevelGraph(stock, first_node(stock))
+    graph = graph_of(stock)
     grade = graph.levels[0]
     if grade is None:
         return Verdict(None, table_of(graph), None, None)

@@ -5,6 +5,7 @@ import random
 from oddskept.codebook import CodeBook
 from oddskept.coderun import after, first_state, moves_of
 from oddskept.codestates import code_states
+from oddskept.errors import BadBook
 from oddskept.families import stairs, tally
 from oddskept.levels import grade_of
 from oddskept.nodes import pairs_of
@@ -85,6 +86,25 @@ def random_code(generator):
     items = [("go", 0), ("go", 1), ("hit", 0), ("hit", 1)]
     ports = [generator.sample(items, generator.randint(0, 2)) for _ in range(generator.randint(2, 3))]
     return CodeBook(2, 2, [[0]], [("cell", CELL)], ports, deeds)
+
+
+def looping_code(generator):
+    """A code book with jumps, forward and back, some of whose lines are fused."""
+    while True:
+        deeds = []
+        for name in ("go", "hit", "stay"):
+            many = generator.randint(2, 8)
+            words = [("set", 0, 1), ("copy", 1, 0), ("add", 0, 0, 1), ("less", 0, 1, 0), ("same", 1, 0, 1), ("read", 0, 0, 0), ("swap", 1, 0, 0),
+                     ("use", 0, 0, "put", 1), ("use", 0, 0, "wait", 1)]
+            told = []
+            for _ in range(many):
+                line = generator.choice(words + [("jump", generator.randrange(many + 1)), ("jump", generator.randrange(many + 1), 0)] * 2)
+                told.append((line, generator.random() < 0.2))
+            deeds.append((name, told + [(("answer", 0), False)]))
+        try:
+            return CodeBook(2, 2, [[0]], [("cell", CELL)], [[("go", 1), ("hit", 0)], [("stay", 0)]], deeds)
+        except BadBook:
+            continue
 
 
 def random_plain(generator, deeds, values=2, states=3):

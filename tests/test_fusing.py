@@ -2,7 +2,6 @@ import itertools
 import random
 import unittest
 
-from oddskept.codebook import CodeBook
 from oddskept.codestates import code_states
 from oddskept.codetext import write_code
 from oddskept.coderun import first_state, moves_of, walk
@@ -12,32 +11,13 @@ from oddskept.fusing import fuse, thin
 from oddskept.levels import grade_of
 from oddskept.stocks import Stock
 from oddskept.wholedeeds import atomic, whole_deed
-from tests.helpers import CELL, code_with, fields_of, fused_tally, lines, loose, random_code, random_plain
+from tests.helpers import CELL, code_with, fields_of, fused_tally, lines, looping_code, loose, random_code, random_plain
 
 LOCAL = ("set", "copy", "add", "less", "same", "jump")
 
 
 def marks_of(code):
     return {(name, at): fused for name, told in code.deeds for at, (_, fused) in enumerate(told)}
-
-
-def looping_code(generator):
-    """A code book with jumps, forward and back, some of whose lines are fused."""
-    while True:
-        deeds = []
-        for name in ("go", "hit", "stay"):
-            many = generator.randint(2, 8)
-            words = [("set", 0, 1), ("copy", 1, 0), ("add", 0, 0, 1), ("less", 0, 1, 0), ("same", 1, 0, 1), ("read", 0, 0, 0), ("swap", 1, 0, 0),
-                     ("use", 0, 0, "put", 1), ("use", 0, 0, "wait", 1)]
-            told = []
-            for _ in range(many):
-                line = generator.choice(words + [("jump", generator.randrange(many + 1)), ("jump", generator.randrange(many + 1), 0)] * 2)
-                told.append((line, generator.random() < 0.2))
-            deeds.append((name, told + [(("answer", 0), False)]))
-        try:
-            return CodeBook(2, 2, [[0]], [("cell", CELL)], [[("go", 1), ("hit", 0)], [("stay", 0)]], deeds)
-        except BadBook:
-            continue
 
 
 class Fuse(unittest.TestCase):

@@ -2,18 +2,22 @@ import itertools
 import random
 import unittest
 
+from oddskept.beside import beside
 from oddskept.codestates import code_states
 from oddskept.coderun import first_state, walk
 from oddskept.families import stairs, tally
+from oddskept.levelgraph import graph_of
 from oddskept.levels import dead_at, grade_of, levels_of
 from oddskept.nodes import next_nodes, pairs_of
 from oddskept.orders import unordered
 from oddskept.plainbook import PlainBook
 from oddskept.plainrun import reach
+from oddskept.quiet import quiet_lines
 from oddskept.stocks import Stock, first_plain
+from oddskept.wholedeeds import atomic
 from tests import models
-from tests.helpers import (broken_tally, code_with, fused_tally, guessing_stock, is_exact, long_stairs, loose, random_marks,
-                           shuffled, stocks_of_all_grades)
+from tests.helpers import (CELL, broken_tally, code_with, fused_tally, guessing_stock, is_exact, lines, long_stairs, looping_code,
+                           loose, random_code, random_marks, random_plain, shuffled, stocks_of_all_grades)
 
 ASKED = (1, ((), (), (0, "count", 0)))
 DONE_0 = (1, ((), (), (1, 0)))
@@ -79,6 +83,53 @@ class Grades(unittest.TestCase):
     def test_grade_0_exactly_with_a_row_without_order(self):
         for stock in stocks_of_all_grades(51, 30):
             self.assertEqual(grade_of(stock) == 0, unordered(stock) is not None)
+
+
+class LateBeginsAndEarlyAnswers(unittest.TestCase):
+    """The grade is found on rows in which calls begin late and answer early; all rows give the same."""
+
+    def test_random_stocks(self):
+        generator = random.Random(55)
+        met = {}
+        while sum(met.values()) < 400:
+            code = generator.choice([random_code, looping_code])(generator)
+            plain = random_plain(generator, ["go", "hit", "stay"], states=generator.randint(2, 4))
+            if generator.random() < 0.4:
+                plain = atomic(code)
+            stock = generator.choice([Stock(code, plain)] * 3 + [guessing_stock(generator, generator.randint(1, 2))])
+            if len(code_states(stock.code)) < 60:
+                grade = grade_of(stock)
+                self.assertEqual(grade, graph_of(stock).levels[0])
+                met[grade] = met.get(grade, 0) + 1
+        self.assertGreater(len(met), 2)
+
+    def test_many_ports(self):
+        """Four stairs, or two tallies, side by side; three flags; and four callers of one deed."""
+        self.assertEqual(grade_of(beside(*[stairs(1)] * 4)), 1)
+        self.assertEqual(grade_of(beside(tally([0, 1]), tally([1, 0]))), 1)
+        self.assertEqual(grade_of(beside(tally([0, 1, 2]), tally([2, 0, 1]))), 1)
+        self.assertIsNone(grade_of(beside(fused_tally(), fused_tally())))
+        self.assertEqual(grade_of(beside(fused_tally(), broken_tally())), 0)
+
+    def test_calls_that_wait_or_go_round(self):
+        code = code_with(registers=2, rows=[[0]], parts=[("cell", CELL)], ports=[[("wait", 0)], [("up", 1)], [("ring", 0)]], deeds=[
+            ("wait", loose(("set", 1, 1), ("use", 0, 0, "wait", 0), ("answer", 0))),
+            ("up", lines("+", ("set", 1, 1), ("use", 0, 0, "put", 1), "+", ("copy", 0, 1), ("answer", 0))),
+            ("ring", loose(("set", 0, 1), ("jump", 0)))])
+        choices = [("wait", 1, 0, 0, 1), ("up", 0, 1, 1, 1), ("up", 1, 1, 1, 1)]
+        for kept, grade in ((choices, None), (choices[1:], 0), (choices[:2], 0), (choices[:1], 0)):
+            stock = Stock(code, PlainBook(2, 0, kept))
+            self.assertEqual((grade_of(stock), graph_of(stock).levels[0]), (grade, grade))
+
+    def test_quiet_lines(self):
+        told = [(loose(("set", 0, 1), ("read", 0, 0, 0), ("add", 0, 0, 0), ("answer", 0)), [0, 2]),
+                (lines("+", ("set", 0, 1), ("read", 0, 0, 0), "+", ("add", 0, 0, 0), ("answer", 0)), [2]),
+                (lines("+", ("set", 0, 1), "+", ("set", 0, 0), ("copy", 0, 0), ("use", 0, 0, "put", 0), ("answer", 0)), [0, 1, 2]),
+                (lines("+", ("set", 0, 1), "+", ("jump", 3, 0), ("copy", 0, 0), ("use", 0, 0, "put", 0), ("answer", 0)), [2]),
+                (loose(("jump", 0)), []), (loose(("set", 0, 1), ("jump", 0, 0), ("answer", 0)), []),
+                (loose(("read", 0, 0, 0), ("jump", 0, 0), ("answer", 0)), [1]), (loose(("answer", 0)), [])]
+        for deed, quiet in told:
+            self.assertEqual(sorted(quiet_lines(deed)), quiet)
 
 
 class DeadLevels(unittest.TestCase):

@@ -21,6 +21,7 @@ from oddskept.progtext import read_program, write_program
 from oddskept.scripts import make_script, script_of
 from oddskept.shares import Share, power
 from oddskept.stocks import Stock, first_plain
+from oddskept.web import Web
 from tests import models
 from tests.helpers import broken_tally, code_with, is_exact, loose, random_row, stocks_of_all_grades
 from tests.test_best import fraction
@@ -59,7 +60,7 @@ def wide_script(sides, places=0, moves=0):
 
 def random_accepted(generator, stock, pair, depth):
     """A script that is accepted at a pair that is dead, with rows that lead anywhere, or None."""
-    graph = LevelGraph(stock, (pair[0], (pair[1],)))
+    graph = LevelGraph(Web(stock), (pair[0], (pair[1],)))
     if graph.levels[0] is None:
         return None
     if depth == 0:
@@ -211,6 +212,15 @@ class Made(Checks):
                 self.assertLessEqual(worth, 1 - min(chances(script)))
                 if grade_of(stock):
                     self.assertGreaterEqual(worth, max(chances(script)))
+
+    def test_calls_that_are_left_in_flight(self):
+        """What the games before have left does not make the later ones longer."""
+        code = code_with(registers=2, rows=[[0]], ports=[[("go", 0), ("go", 1)]] * 4, deeds=[
+            ("go", loose(("count", 1, 1, 0, 0), ("write", 0, 0, 0), ("answer", 1)))])
+        stock = Stock(code, PlainBook(2, 0, [("go", 0, 0, 1, 0), ("go", 0, 0, 0, 1), ("go", 1, 0, 0, 0)]))
+        row = tuple([(0, port, 0) for port in range(1, 4)]) + ((0, 0, 1),) + ((1, 0, 0),) * 2 + ((2, 0, 0),)
+        self.assertEqual(grade_of(stock), 0)
+        self.check(stock, (row, ()), 4, 1)
 
     def test_programs_have_texts(self):
         program, _ = parting(tally([0, 1]), make_script(tally([0, 1])), copies=4)
