@@ -226,6 +226,33 @@ class Odds(unittest.TestCase):
         self.check(Hall(Program(1, 0, [thread, other]), [], []), [2], "1/1")
         self.check(Hall(Program(1, 0, [other, thread]), [], []), [2], "1/1")
 
+    def test_threads_that_do_not_matter(self):
+        """What has no effect on a print is not gone through, however much there is of it."""
+        counts = [("set", 1, 1), ("add", 0, 0, 1), ("leave", 0, 0), ("jump", 1)]
+        sends = [("set", 1, 1), ("add", 0, 0, 1), ("send", 1, 1), ("call", 2, 0, 0, 0), ("jump", 1)]
+        fetches = [("fetch", 0, 1), ("throw", 1, 60), ("leave", 0, 2), ("call", 2, 0, 1, 0), STOP]
+        prints = [("throw", 0, 2), ("call", 1, 1, 0, 0), ("print", 0), ("leave", 0, 0), STOP]
+        for ways in (["code", "code"], ["plain", "code"], ["plain", "plain"]):
+            hall = Hall(Program(3, 2, [counts, sends, prints, counts, fetches]), [tally([0, 1]), stairs(1)], ways)
+            self.check(hall, [1], "1/2")
+        # Here they do: the number that is looked at decides what is printed.
+        changes = [("set", 0, 5), ("leave", 0, 0), ("set", 0, 7), ("leave", 0, 0), ("jump", 0)]
+        hall = Hall(Program(1, 0, [changes, [("look", 0, 0), ("print", 0), ("look", 0, 0), ("print", 0), STOP]]), [], [])
+        for goal, odds in (([0], "1/1"), ([7], "1/1"), ([7, 0], "0/1"), ([0, 7], "1/1"), ([7, 5], "1/1"), ([5, 5], "1/1"), ([6], "0/1")):
+            self.check(hall, goal, odds)
+
+    def test_a_chain_of_effects(self):
+        """The first thread has an effect on the last one by way of an object and two mail cells."""
+        first = [("call", 0, 0, 0, 0), STOP]
+        second = [("call", 0, 0, 2, 0), ("send", 0, 0), STOP]
+        third = [("fetch", 0, 0), ("leave", 0, 1), STOP]
+        last = [("look", 0, 1), ("print", 0), STOP]
+        for way in ("code", "plain"):
+            hall = Hall(Program(2, 1, [first, second, third, last]), [tally([0, 1])], [way])
+            for goal, odds in (([0], "1/1"), ([1], "1/1"), ([2], "0/1")):
+                self.check(hall, goal, odds)
+            self.check(Hall(Program(2, 1, [second, third, last]), [tally([0, 1])], [way]), [1], "0/1")
+
     def test_mail_that_others_look_at(self):
         """A number must not be fetched before it has been looked at, or overwritten."""
         sends = [("set", 0, 1), ("send", 0, 0), STOP]
